@@ -1,12 +1,11 @@
 """The call on, and what happens as time goes on."""
 
 from postalhouse.moves import COME, LEFT, note_loss, put_into_bin, send_back, tell
-from postalhouse.ranges import within
+from postalhouse.ranges import TIMES, within
 from postalhouse.records import AT_COUNTER, ON_RUN, goal_office
 from postalhouse.state import CARRIER
 from postalhouse.ways import earliest, runs_ahead
 
-TIMES = (0, 40000)
 LONGEST_STEP = 2880
 COUNTER_MINUTES = 10080
 

@@ -1,5 +1,6 @@
-"""The calls lose, check, found and claim."""
+"""The calls lose, check, found, claim and giveback."""
 
+from postalhouse.accounts import take_debt_back
 from postalhouse.moves import FOUND, note_loss, put_into_bin, tell
 from postalhouse.ranges import OFFICE, within
 from postalhouse.records import IN_BIN, ON_RUN
@@ -74,4 +75,22 @@ def claim_loss(house, given):
     # A party never owes itself anything.
     if loss.party != item.origin:
         house.debts[loss.party][item.origin] += item.value
+    return [item.value, loss.party]
+
+
+def give_back(house, given):
+    """giveback: item."""
+    item = house.posted.get(given[0])
+    if item is None:
+        return [-5]
+    due = [loss for loss in house.losses if loss.item == item.number and loss.cleared and loss.paid]
+    if not due:
+        return [-6]
+    loss = due[-1]
+    loss.paid = False
+    house.cash[item.origin] += item.value
+    house.came_in += item.value
+    # A party that answered to itself owed nothing.
+    if loss.party != item.origin:
+        take_debt_back(house, loss.party, item.origin, item.value)
     return [item.value, loss.party]

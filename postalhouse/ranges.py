@@ -1,6 +1,8 @@
 """Whether numbers that were handed in are within the ranges told for them."""
 
 OFFICE = (0, 3)
+PARTY = (0, 4)
+TIMES = (0, 40000)
 
 
 def within(number, bounds):

@@ -29,4 +29,6 @@ class House:
         self.debts = [[0] * PARTIES for party in range(PARTIES)]
         self.came_in = 0
         self.went_out = 0
+        # Behind each call of the journal what back tells of it. What is refused or only asks changes nothing, so
+        # doing the journal's calls anew would come to the same.
         self.journal = []

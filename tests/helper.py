@@ -1,18 +1,19 @@
-"""What the tests share: a play of calls that can be looked into, and asserts about refusals."""
+"""What the tests share: a play of calls that can be looked into, and asserts about refusals and asking calls."""
 
 import unittest
 
 from postalhouse.house import answer_call, answers
 from postalhouse.state import House
 
-NUMBERS = {
-    "trip": 0, "cancel": 1, "post": 2, "on": 3, "lose": 4, "check": 5, "found": 6,
-    "pass_items": 7, "out": 8, "hand": 9, "pickup": 10, "tell": 11, "payout": 12, "claim": 13,
-}
 COUNTS = {
     "trip": 6, "cancel": 2, "post": 9, "on": 1, "lose": 2, "check": 1, "found": 2,
     "pass_items": 2, "out": 1, "hand": 2, "pickup": 1, "tell": 2, "payout": 1, "claim": 1,
+    "giveback": 1, "settle": 0, "item": 1, "office": 1, "said": 2, "knows": 1, "way": 3,
+    "latest": 3, "account": 1, "losses": 0, "orders": 0, "runs": 0, "back": 1, "counts": 0,
 }
+NAMES = list(COUNTS)
+NUMBERS = {name: number for number, name in enumerate(NAMES)}
+ASKING = NAMES[NUMBERS["item"]:]
 HUGE = 10 ** 18
 
 
@@ -35,6 +36,17 @@ def split(calls):
     while place < len(calls):
         end = place + 1 + widths[calls[place]]
         parts.append((calls[place], calls[place + 1:end]))
+        place = end
+    return parts
+
+
+def split_answers(numbers):
+    """What was answered, as one list for each call."""
+    parts = []
+    place = 0
+    while place < len(numbers):
+        end = place + 1 + numbers[place]
+        parts.append(numbers[place + 1:end])
         place = end
     return parts
 
@@ -87,6 +99,11 @@ class Play:
             answer_call(house, call, given)
         return house
 
+    def done(self):
+        """The calls that belong into the journal, in order: trip to settle, where they weren't refused."""
+        pairs = zip(split(self.calls), split_answers(self.before))
+        return [call for call, answer in pairs if call[0] <= NUMBERS["settle"] and answer[0] >= 0]
+
     def messages(self, first=0):
         """The messages from that number on, as (teller, time, item, kind)."""
         return [(told.teller, told.time, told.item, told.kind) for told in self.house().messages[first:]]
@@ -117,6 +134,12 @@ class HouseCase(unittest.TestCase):
         """The call is refused, with that number alone, and the house is what it was."""
         before = plain(play.house())
         self.assertEqual(play.do(name, *given), [refusal], (name, given))
+        self.assertEqual(plain(play.house()), before, (name, given))
+
+    def assert_asks(self, play, expected, name, *given):
+        """The call answers so, and the house is what it was, the journal too."""
+        before = plain(play.house())
+        self.assertEqual(play.do(name, *given), expected, (name, given))
         self.assertEqual(plain(play.house()), before, (name, given))
 
     def assert_range(self, make, name, good, place, low, high):

@@ -1,9 +1,10 @@
-"""The form of what is handed in and given back, the document's example, and what is kept behind the calls."""
+"""The form of what is handed in and given back, and the document's example."""
 
+import random
 import unittest
 
 from postalhouse.house import answers
-from tests.helper import COUNTS, HUGE, NUMBERS, Play, linked_play, plain, split
+from tests.helper import COUNTS, HUGE, NAMES, NUMBERS, Play, split, split_answers
 
 TRIP = [0, 1, 0, 1, 600, 120, 5]
 POST = [2, 0, 7, 1, 4, 0, 0, 0, 30, 2]
@@ -33,19 +34,97 @@ EXAMPLE_ANSWERS = [
 ]
 
 
+# The same line goes on: all that can be asked behind the example.
+ASKED = [
+    16, 7,
+    17, 0,
+    17, 1,
+    18, 0, 7,
+    18, 1, 7,
+    18, 2, 7,
+    19, 0,
+    19, 1,
+    20, 0, 721, 1,
+    20, 1, 721, 1,
+    20, 1, 721, 0,
+    21, 0, 1, 2160,
+    21, 0, 1, 2159,
+    22, 0,
+    22, 1,
+    23,
+    24,
+    25,
+    27,
+    26, 9,
+    26, 2,
+    26, 10,
+    15,
+    22, 0,
+    27,
+    14, 7,
+]
+ASKED_ANSWERS = [
+    8, 0, 5, 0, 1, 720, 0, 0, 0,
+    5, 0, 0, 0, 0, 0,
+    5, 0, 0, 0, 0, 0,
+    4, 3, 11, 1, 721,
+    4, 4, 11, 1, 721,
+    1, 0,
+    5, 3, 3, 0, 1, 5,
+    6, 4, 4, 2, 3, 4, 5,
+    3, 2160, 1, 1,
+    3, 721, -1, -1,
+    1, -8,
+    1, 2040,
+    1, -8,
+    4, 0, -28, 30, 0,
+    4, 0, 30, 0, 30,
+    2, 0, 0,
+    8, 1, 6, 7, 30, 1, 0, 5, 1,
+    2, 0, 0,
+    6, 721, 1, 6, 9, 32, 30,
+    13, 721, 1, 6, 0, 1, 32, 30, 5, -28, 30, 0, 0, 0,
+    13, 0, 1, 1, 0, 0, 2, 0, 5, 2, 0, 0, 0, 0,
+    1, -1,
+    7, 0, 5, 30, -30, 0, 0, 0,
+    4, 0, 2, 0, 0,
+    6, 721, 1, 6, 10, 32, 30,
+    1, -6,
+]
+
+
+def example_play():
+    play = Play()
+    for number, given in split(EXAMPLE):
+        play.do(NAMES[number], *given)
+    return play
+
+
 class Example(unittest.TestCase):
     def test_the_document_s_example(self):
         self.assertEqual(answers(EXAMPLE), EXAMPLE_ANSWERS)
 
     def test_30_are_owed_by_1_to_0(self):
-        play = Play()
-        for number, given in split(EXAMPLE):
-            play.do(list(NUMBERS)[number], *given)
-        house = play.house()
+        house = example_play().house()
         self.assertEqual(house.debts, [[0] * 5, [30, 0, 0, 0, 0], [0] * 5, [0] * 5, [0] * 5])
         self.assertEqual(house.cash, [2 - 30, 30, 0, 0, 0])
         self.assertEqual((house.came_in, house.went_out), (32, 30))
         self.assertEqual([told.kind for told in house.messages], [0, 2, 1, 3, 6, 11])
+
+    def test_what_is_asked_behind_it(self):
+        self.assertEqual(answers(EXAMPLE + ASKED), EXAMPLE_ANSWERS + ASKED_ANSWERS)
+
+    def test_it_stands_in_the_bins_and_on_the_run(self):
+        play = Play()
+        for number, given in split(TRIP + POST):
+            play.do(NAMES[number], *given)
+        self.assertEqual(play.do("office", 0), [0, 1, 7, 0, 0, 0])
+        play.on(601)
+        self.assertEqual(play.do("item", 7), [0, 1, 1, 0, 720, 0, 0, 0])
+        self.assertEqual(play.do("runs"), [1, 4, 1, 0, 720, 1])
+        play.on(721)
+        self.assertEqual(play.do("office", 1), [0, 1, 7, 0, 0, 0])
+        self.assertEqual(play.do("runs"), [0, 0])
 
 
 class Form(unittest.TestCase):
@@ -55,24 +134,32 @@ class Form(unittest.TestCase):
     def test_each_call_has_its_number_and_width(self):
         for name, number in NUMBERS.items():
             calls = [number] + [HUGE] * COUNTS[name] + [3, 5]
-            self.assertEqual(answers(calls)[2:], [2, 5, 0], name)
+            self.assertEqual(answers(calls)[-3:], [2, 5, 0], name)
+            self.assertEqual(len(split_answers(answers(calls))), 2, name)
 
     def test_numbers_of_any_size_are_refused(self):
-        unknown = {"cancel": -5, "lose": -5, "hand": -5, "pickup": -5, "payout": -5, "claim": -5}
+        unknown = ("cancel", "lose", "hand", "pickup", "payout", "claim", "giveback", "item")
         for name, number in NUMBERS.items():
+            if COUNTS[name] == 0:
+                continue
             for size in (HUGE, -HUGE):
                 calls = [number] + [size] * COUNTS[name]
-                self.assertEqual(answers(calls), [1, unknown.get(name, -1)], name)
+                self.assertEqual(answers(calls), [1, -5 if name in unknown else -1], name)
+
+    def test_calls_without_numbers_are_never_refused(self):
+        self.assertEqual(answers([15]), [7, 0, 5, 0, 0, 0, 0, 0])
+        self.assertEqual(answers([23, 24, 25]), [2, 0, 0] * 3)
+        self.assertEqual(answers([27]), [6, 0, 0, 0, 0, 0, 0])
 
     def test_answers_are_whole_numbers_in_a_list(self):
-        given = answers(EXAMPLE + [4, 7, 0, 5, 1, 6, 0, 7, 10, 7, 13, 7, 1, 1, 4])
+        given = answers(EXAMPLE + [4, 7, 0, 5, 1, 6, 0, 7, 10, 7, 13, 7, 1, 1, 4] + ASKED)
         self.assertEqual(type(given), list)
         self.assertEqual({type(number) for number in given}, {int})
 
     def test_what_is_handed_in_is_the_same_afterwards(self):
-        calls = list(EXAMPLE)
+        calls = EXAMPLE + ASKED
         answers(calls)
-        self.assertEqual(calls, EXAMPLE)
+        self.assertEqual(calls, EXAMPLE + ASKED)
 
     def test_what_is_handed_in_is_not_changed_for_a_while_either(self):
         class Watched(list):
@@ -82,13 +169,14 @@ class Form(unittest.TestCase):
             __setitem__ = __delitem__ = __iadd__ = __imul__ = refuse
             append = extend = insert = pop = remove = clear = reverse = sort = refuse
 
-        self.assertEqual(answers(Watched(EXAMPLE)), EXAMPLE_ANSWERS)
+        self.assertEqual(answers(Watched(EXAMPLE + ASKED)), EXAMPLE_ANSWERS + ASKED_ANSWERS)
 
     def test_nothing_is_kept_from_one_time_to_the_next(self):
         self.assertEqual(answers(EXAMPLE), EXAMPLE_ANSWERS)
         self.assertEqual(answers(EXAMPLE), EXAMPLE_ANSWERS)
         self.assertEqual(answers(TRIP), [1, 1])
         self.assertEqual(answers([9, 7, 0]), [1, -5])
+        self.assertEqual(answers([27, 26, 1]), [6, 0, 0, 0, 0, 0, 0, 1, -1])
 
     def test_the_answers_are_a_list_of_their_own(self):
         first = answers(EXAMPLE)
@@ -117,39 +205,31 @@ class Form(unittest.TestCase):
         self.assertEqual(len(given), 2 * 6 + 3 * 20 + 3 * 40)
 
 
-class Behind(unittest.TestCase):
-    def test_the_journal_has_the_calls_that_were_not_refused(self):
-        play = linked_play()
-        play.post(0, 1, 1)
-        play.post(0, 1, 1)
-        play.on(721)
-        play.on(720)
-        play.do("check", 1)
-        play.do("tell", 0, 0)
-        house = play.house()
-        expected = [
-            (0, [1, 0, 1, 600, 120, 20]),
-            (0, [2, 1, 0, 800, 60, 20]),
-            (2, [0, 1, 1, 0, 0, 0, 0, 0, 0]),
-            (3, [721]),
-            (5, [1]),
-            (11, [0, 0]),
-        ]
-        self.assertEqual(house.journal, expected)
+    def test_400_calls_of_all_kinds_with_numbers_of_all_sizes(self):
+        source = random.Random(3)
+        sizes = (-HUGE, -1, 0, 1, 2, 3, 4, 5, 7, 20, 21, 100, 999, 1000, 40000, 40001, 100000, 100001, HUGE)
+        for turn in range(20):
+            calls = EXAMPLE + ASKED
+            for number in range(400 - len(split(calls))):
+                name = source.choice([name for name in NAMES if name != "on"])
+                calls += [NUMBERS[name]] + [source.choice(sizes) for place in range(COUNTS[name])]
+            kept = list(calls)
+            given = answers(calls)
+            self.assertEqual(calls, kept)
+            self.assertEqual(given, answers(kept))
+            parts = split_answers(given)
+            self.assertEqual(len(parts), 400)
+            for part in parts:
+                self.assertTrue(part[0] >= 0 or len(part) == 1)
+
+    def test_a_line_of_1_call_of_each_kind(self):
+        for name, number in NUMBERS.items():
+            self.assertEqual(len(split_answers(answers([number] + [0] * COUNTS[name]))), 1, name)
 
     def test_a_post_without_a_way_is_no_refusal(self):
         play = Play()
         self.assertEqual(play.post(0, 1, 1), [0, -1])
-        self.assertEqual(len(play.house().journal), 1)
-
-    def test_the_journal_brings_everything_back(self):
-        play = Play()
-        for number, given in split(EXAMPLE):
-            play.do(list(NUMBERS)[number], *given)
-        again = Play()
-        for number, given in play.house().journal:
-            again.do(list(NUMBERS)[number], *given)
-        self.assertEqual(plain(again.house()), plain(play.house()))
+        self.assertEqual(play.do("counts")[3], 1)
 
 
 if __name__ == "__main__":
